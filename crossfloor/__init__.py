@@ -1,0 +1,1 @@
+"""Crossfloor: moves in which the four quadrants of a floor cross over."""

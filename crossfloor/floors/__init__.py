@@ -1,0 +1,1 @@
+"""Floors, and their written form."""

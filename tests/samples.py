@@ -1,0 +1,102 @@
+"""Floors, strings and checks that several test files share."""
+
+import re
+
+from crossfloor.errors import BadFloor, CrossError
+
+# All characters of the document's strings: the space to "~" without the per cent sign, and the newline.
+PER_CENT = 37
+CHARACTERS = [chr(code) for code in range(32, 127) if code != PER_CENT] + ["\n"]
+CAPITALS = "ABCDEFGHIJKLMNOPQRSTUVWXYZ"
+SMALL = "abcdefghijklmnopqrstuvwxyz"
+
+ROW_OF_TWELVE = (("a", "B", "c", "D", "e", "F", "g", "H", "i", "J", "k", "L"),)
+COLUMN_OF_TWELVE = tuple((name,) for name in "lKjIhGfEdCbA")
+
+
+def big_name(row, column):
+    """A name of two to six letters, another one for each cell of a floor of twelve rows and columns."""
+    first = SMALL[row].upper() if (row + column) % 5 == 0 else SMALL[row]
+    return first + SMALL[column] * (1 + column % 5)
+
+
+TWELVE_BY_TWELVE = tuple(tuple(big_name(row, column) for column in range(12)) for row in range(12))
+
+# Right floors, each with its written form and its leaders.
+SAMPLES = [
+    ((("a",),), "a", ()),
+    ((("A",),), "A", ("A",)),
+    ((("Abcdef",),), "Abcdef", ("Abcdef",)),
+    ((("zyxwvu",),), "zyxwvu", ()),
+    ((("a", "b"), ("c", "d")), "a b\nc d", ()),
+    ((("A", "b"), ("c", "D")), "A b\nc D", ("A", "D")),
+    ((("D", "b"), ("c", "A")), "D b\nc A", ("A", "D")),
+    ((("D", "C"), ("B", "A")), "D C\nB A", ("A", "B", "C", "D")),
+    ((("Ab", "ab"),), "Ab ab", ("Ab",)),
+    ((("ab",), ("Ab",)), "ab\nAb", ("Ab",)),
+    ((("Zz", "a", "A"), ("zz", "Aa", "Z")), "Zz a A\nzz Aa Z", ("A", "Aa", "Z", "Zz")),
+    ((("A", "B", "C"),), "A B C", ("A", "B", "C")),
+    ((("C",), ("b",), ("A",)), "C\nb\nA", ("A", "C")),
+    ((("Az", "Z", "y"), ("Azz", "Aa", "x")), "Az Z y\nAzz Aa x", ("Aa", "Az", "Azz", "Z")),
+    (ROW_OF_TWELVE, "a B c D e F g H i J k L", ("B", "D", "F", "H", "J", "L")),
+    (COLUMN_OF_TWELVE, "l\nK\nj\nI\nh\nG\nf\nE\nd\nC\nb\nA", ("A", "C", "E", "G", "I", "K")),
+]
+
+
+def wrong_position(floor):
+    """The position that must be reported for the floor, or None: the document's words, one by one."""
+    if len(floor) == 0 or len(floor[0]) == 0:
+        return (0, 0)
+    earlier = []
+    for row in range(len(floor)):
+        for column in range(max(len(floor[row]), len(floor[0]))):
+            if row >= 12 or column >= 12:
+                return (row, column)
+            if column >= len(floor[row]) or column >= len(floor[0]):
+                return (row, column)
+            name = floor[row][column]
+            if re.fullmatch("[A-Za-z][a-z]{0,5}", name) is None or name in earlier:
+                return (row, column)
+            earlier.append(name)
+    return None
+
+
+def split_text(text):
+    """The rows and strings of a text, character by character."""
+    rows = [[""]]
+    for character in text:
+        if character == "\n":
+            rows.append([""])
+        elif character == " ":
+            rows[-1].append("")
+        else:
+            rows[-1][-1] += character
+    return tuple(tuple(row) for row in rows)
+
+
+def changed(floor, row, column, text):
+    """The floor with another string at one position."""
+    rows = [list(names) for names in floor]
+    rows[row][column] = text
+    return tuple(tuple(names) for names in rows)
+
+
+def positions_of(floor):
+    """All positions of the floor with their names."""
+    return [(row, column, name) for row, names in enumerate(floor) for column, name in enumerate(names)]
+
+
+def assert_raises(test, kind, values, call, *arguments):
+    """The call raises an error of this very class, with these values in its attributes."""
+    with test.assertRaises(CrossError) as caught:
+        call(*arguments)
+    error = caught.exception
+    test.assertIs(type(error), kind, arguments)
+    for attribute, value in values.items():
+        test.assertEqual(getattr(error, attribute), value, arguments)
+        test.assertIs(type(getattr(error, attribute)), type(value), arguments)
+
+
+def assert_bad_floor(test, place, call, *arguments):
+    """The call raises BadFloor with this place."""
+    assert_raises(test, BadFloor, {"row": place[0], "column": place[1]}, call, *arguments)
