@@ -81,6 +81,30 @@ def changed(floor, row, column, text):
     return tuple(tuple(names) for names in rows)
 
 
+def turned(floor):
+    """The floor with its rows as columns and its columns as rows."""
+    return tuple(tuple(floor[row][column] for row in range(len(floor))) for column in range(len(floor[0])))
+
+
+def reordered(floor, rows, columns):
+    """The floor whose lines are those of the floor with the given numbers."""
+    return tuple(tuple(floor[row][column] for column in columns) for row in rows)
+
+
+def led_floor(count, width, places):
+    """A floor of that many rows and columns whose leaders stand at the places; labels do not ascend."""
+    def name(row, column):
+        text = SMALL[(7 * row + 3) % 12] + SMALL[(5 * column + 2) % 12]
+        return text.capitalize() if (row, column) in places else text
+    return tuple(tuple(name(row, column) for column in range(width)) for row in range(count))
+
+
+def is_tuple_of_tuples(values):
+    """True if this is a tuple of tuples of strings."""
+    kinds = [type(value) is tuple and {type(text) for text in value} <= {str} for value in values]
+    return type(values) is tuple and all(kinds)
+
+
 def positions_of(floor):
     """All positions of the floor with their names."""
     return [(row, column, name) for row, names in enumerate(floor) for column, name in enumerate(names)]

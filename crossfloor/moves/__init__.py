@@ -1,0 +1,1 @@
+"""Moves on floors."""

@@ -1,0 +1,1 @@
+"""Rings of labels, their permutations and their alignments."""
