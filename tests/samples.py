@@ -1,8 +1,11 @@
 """Floors, strings and checks that several test files share."""
 
+import itertools
+import random
 import re
 
-from crossfloor.errors import BadFloor, CrossError
+from crossfloor.errors import BadFloor, CrossError, Unreachable
+from crossfloor.reach.reasons import check_reason
 
 # All characters of the document's strings: the space to "~" without the per cent sign, and the newline.
 PER_CENT = 37
@@ -124,3 +127,85 @@ def assert_raises(test, kind, values, call, *arguments):
 def assert_bad_floor(test, place, call, *arguments):
     """The call raises BadFloor with this place."""
     assert_raises(test, BadFloor, {"row": place[0], "column": place[1]}, call, *arguments)
+
+
+def all_led_floors(count, width):
+    """All floors of that many rows and columns: each choice of leaders, without any to leaders only."""
+    places = list(itertools.product(range(count), range(width)))
+    chosen = itertools.product((False, True), repeat=len(places))
+    return [led_floor(count, width, [place for place, led in zip(places, choice) if led]) for choice in chosen]
+
+
+def some_led_floors(count, width, many):
+    """Some floors of that many rows and columns, those without leaders and with leaders only among them."""
+    floors = all_led_floors(count, width)
+    return [floors[0], floors[-1]] + random.Random(count * 100 + width).sample(floors, many)
+
+
+# Two floors and the first reason why no moves lead from the one to the other, or None, written out by hand.
+REASONS = [
+    ((("a",),), (("b",),), ("items", "a")),
+    ((("b",),), (("a",),), ("items", "a")),
+    ((("ab",),), (("a",),), ("items", "a")),
+    ((("d", "a"),), (("c", "b"),), ("items", "a")),
+    ((("a", "Z"),), (("a", "B"),), ("items", "B")),
+    ((("a", "b"),), (("a", "b", "c"),), ("items", "c")),
+    ((("a", "b"), ("c", "d")), (("a", "b"),), ("items", "c")),
+    ((("a", "b"), ("c", "d")), (("a", "c"), ("b", "x")), ("items", "d")),
+    ((("a", "b", "c"),), (("c",), ("b",), ("a",)), ("row", "a", "b")),
+    ((("A", "b"), ("c", "D")), (("A", "D"), ("c", "b")), ("row", "A", "D")),
+    ((("A", "b"), ("c", "d"), ("e", "f")), (("A", "b"), ("f", "d"), ("e", "c")), ("row", "c", "d")),
+    ((("a", "b"), ("c", "d")), (("a", "b"), ("d", "c")), ("column", "a", "c")),
+    ((("a", "C"), ("b", "D")), (("D", "b"), ("a", "C")), ("column", "C", "D")),
+    ((("a", "b", "c"), ("d", "e", "f")), (("a", "b", "c"), ("d", "f", "e")), ("column", "b", "e")),
+    ((("a",), ("b",)), (("b",), ("a",)), ("idle rows", ("a", "b", "a"))),
+    ((("a",), ("b",), ("c",)), (("b",), ("a",), ("c",)), ("idle rows", ("a", "b", "a", "a"))),
+    ((("a",), ("b",), ("C",)), (("b",), ("a",), ("C",)), ("idle rows", ("a", "b", "a", "a"))),
+    ((("c",), ("b",), ("a",)), (("a",), ("b",), ("c",)), ("idle rows", ("a", "a", "b", "a"))),
+    ((("a", "b"), ("c", "d")), (("d", "c"), ("b", "a")), ("idle rows", ("a", "c", "a"))),
+    ((("b", "a"),), (("a", "b"),), ("idle columns", ("a", "a", "b"))),
+    ((("A", "B"), ("C", "d")), (("B", "A"), ("d", "C")), ("signs",)),
+    ((("A", "B"), ("C", "d")), (("C", "d"), ("A", "B")), ("signs",)),
+    ((("A", "b"), ("C", "d"), ("E", "f")), (("A", "b"), ("E", "f"), ("C", "d")), None),
+    ((("A", "B"), ("C", "D")), (("B", "A"), ("D", "C")), ("signs",)),
+    ((("A", "B"),), (("A", "B"),), None),
+    ((("A", "B"),), (("B", "A"),), None),
+    ((("A", "b"), ("c", "D")), (("c", "D"), ("A", "b")), ("matching",)),
+    ((("A", "b"), ("c", "D")), (("D", "c"), ("b", "A")), None),
+    ((("a", "B"), ("c", "d")), (("B", "a"), ("d", "c")), ("matching",)),
+    ((("a",),), (("a",),), None),
+    ((("A",),), (("A",),), None),
+]
+
+# Floors on which everything can be searched.
+SEARCHED = [floor for shape in ((1, 1), (1, 2), (2, 1), (1, 3), (3, 1), (2, 2)) for floor in all_led_floors(*shape)]
+SEARCHED += [floor for shape in ((2, 3), (3, 2), (3, 3), (1, 4), (4, 1), (2, 4), (1, 5), (4, 2), (3, 4))
+             for floor in some_led_floors(*shape, 14)]
+EACH_ROW_AND_COLUMN = [(row, (5 * row + 3) % 12) for row in range(12)]
+EVERY_PLACE = list(itertools.product(range(12), repeat=2))
+# Floors of twelve rows and twelve columns: how many leaders there are, and where.
+GREAT = {
+    "none": led_floor(12, 12, []),
+    "one": led_floor(12, 12, [(7, 4)]),
+    "matched": led_floor(12, 12, EACH_ROW_AND_COLUMN),
+    "matched in part": led_floor(12, 12, EACH_ROW_AND_COLUMN[2:9]),
+    "one row": led_floor(12, 12, [(4, column) for column in range(12)]),
+    "one column": led_floor(12, 12, [(row, 9) for row in range(12)]),
+    "part of a row": led_floor(12, 12, [(4, column) for column in range(1, 9, 2)]),
+    "part of a column": led_floor(12, 12, [(row, 9) for row in range(3, 11, 3)]),
+    "a few": led_floor(12, 12, [(1, 1), (1, 5), (6, 5), (10, 11)]),
+    "a corner": led_floor(12, 12, list(itertools.product(range(3), range(4)))),
+    "one more than matched": led_floor(12, 12, EACH_ROW_AND_COLUMN + [(0, 0)]),
+    "all but one": led_floor(12, 12, EVERY_PLACE[1:]),
+    "all": led_floor(12, 12, EVERY_PLACE),
+}
+
+
+def assert_unreachable(test, start, goal, call, *arguments):
+    """The call raises Unreachable with a reason that is right for the two floors."""
+    with test.assertRaises(CrossError) as caught:
+        call(*arguments)
+    test.assertIs(type(caught.exception), Unreachable, arguments)
+    reason = caught.exception.reason
+    test.assertIs(type(reason), tuple, arguments)
+    test.assertIs(check_reason(start, goal, reason), True, (arguments, reason))

@@ -7,6 +7,7 @@ import unittest
 from crossfloor.errors import NotRearranged
 from crossfloor.moves.cross import play
 from crossfloor.rings.alignments import column_alignments, row_alignments
+from tests.plain import rearranged, row_alignments_of
 from tests.samples import (
     CAPITALS, COLUMN_OF_TWELVE, ROW_OF_TWELVE, SAMPLES, TWELVE_BY_TWELVE,
     assert_raises, changed, led_floor, positions_of, reordered, turned,
@@ -17,28 +18,6 @@ THREE_BY_FOUR = (("A", "b", "c", "D"), ("e", "F", "g", "h"), ("I", "j", "k", "l"
 # Each of them has at least two rows and two columns.
 WIDE_FLOORS = [THREE_BY_FOUR, turned(THREE_BY_FOUR), (("A", "B"), ("C", "D")), (("a", "b"), ("c", "d")),
                (("a", "B", "c"), ("d", "e", "F")), TWELVE_BY_TWELVE, led_floor(12, 12, [(0, 0), (11, 11)])]
-
-
-def rearranged(start, goal):
-    """Point 9, word by word."""
-    here = {name: (row, column) for row, column, name in positions_of(start)}
-    there = {name: (row, column) for row, column, name in positions_of(goal)}
-    if sorted(here) != sorted(there) or [len(line) for line in start] != [len(line) for line in goal]:
-        return False
-    return all((here[one][side] == here[two][side]) == (there[one][side] == there[two][side])
-               for one, two in itertools.combinations(sorted(here), 2) for side in (0, 1))
-
-
-def expected_rows(start, goal):
-    """All row alignments, entry by entry."""
-    one = [""] + [min(names) for names in start]
-    two = [""] + [min(names) for names in goal]
-    many = len(one)
-    found = []
-    for offset in range(many):
-        images = {one[at]: two[(at + offset) % many] for at in range(many)}
-        found.append(tuple((text, images[text]) for text in sorted(images)))
-    return tuple(found)
 
 
 def orders_of(count, source):
@@ -65,8 +44,8 @@ class AlignmentsTest(unittest.TestCase):
     def check_pair(self, start, goal):
         self.assertTrue(rearranged(start, goal))
         rows, columns = row_alignments(start, goal), column_alignments(start, goal)
-        self.assertEqual(rows, expected_rows(start, goal))
-        self.assertEqual(columns, expected_rows(turned(start), turned(goal)))
+        self.assertEqual(rows, row_alignments_of(start, goal))
+        self.assertEqual(columns, row_alignments_of(turned(start), turned(goal)))
         self.assertEqual([len(rows), len(columns)], [len(start) + 1, len(start[0]) + 1])
         for alignments in (rows, columns):
             self.check_kinds(alignments)
@@ -157,9 +136,9 @@ class NotRearrangedTest(unittest.TestCase):
 
     def test_two_items_of_one_row_or_column_alone(self):
         goal = with_two_exchanged(ROW_OF_TWELVE, (0, 2), (0, 7))
-        self.assertEqual(column_alignments(ROW_OF_TWELVE, goal), expected_rows(turned(ROW_OF_TWELVE), turned(goal)))
+        self.assertEqual(column_alignments(ROW_OF_TWELVE, goal), row_alignments_of(turned(ROW_OF_TWELVE), turned(goal)))
         self.assertEqual(row_alignments(turned(goal), turned(ROW_OF_TWELVE)),
-                         expected_rows(turned(goal), turned(ROW_OF_TWELVE)))
+                         row_alignments_of(turned(goal), turned(ROW_OF_TWELVE)))
 
     def test_another_shape_of_the_same_items(self):
         names = [name for _, _, name in positions_of(THREE_BY_FOUR)]
@@ -197,8 +176,8 @@ class NotRearrangedTest(unittest.TestCase):
                 goal = tuple(order[at:at + width] for at in range(0, len(names), width))
                 if rearranged(start, goal):
                     found += 1
-                    self.assertEqual(row_alignments(start, goal), expected_rows(start, goal))
-                    self.assertEqual(column_alignments(start, goal), expected_rows(turned(start), turned(goal)))
+                    self.assertEqual(row_alignments(start, goal), row_alignments_of(start, goal))
+                    self.assertEqual(column_alignments(start, goal), row_alignments_of(turned(start), turned(goal)))
                 else:
                     self.check_none(start, goal)
             self.assertEqual(found, {(2, 2): 4, (2, 3): 12, (1, 4): 24}[len(start), len(start[0])])
@@ -217,7 +196,7 @@ class SameAgainTest(unittest.TestCase):
         floor = (("a", "b"), ("c", "d"))
         for _ in range(3):
             assert_raises(self, NotRearranged, {}, row_alignments, floor, turned(floor))
-            self.assertEqual(row_alignments(floor, floor), expected_rows(floor, floor))
+            self.assertEqual(row_alignments(floor, floor), row_alignments_of(floor, floor))
 
     def test_arguments_by_name(self):
         start, goal = (("a",), ("b",)), (("b",), ("a",))

@@ -7,8 +7,9 @@ import unittest
 from crossfloor.errors import NotLeader, UnknownItem
 from crossfloor.floors.grid import check_floor
 from crossfloor.moves.cross import cross, play
+from tests.plain import all_moved, leaders_on, moved
 from tests.samples import (
-    CAPITALS, COLUMN_OF_TWELVE, ROW_OF_TWELVE, SAMPLES, SMALL, TWELVE_BY_TWELVE,
+    COLUMN_OF_TWELVE, ROW_OF_TWELVE, SAMPLES, SMALL, TWELVE_BY_TWELVE,
     assert_raises, is_tuple_of_tuples, led_floor, positions_of, turned,
 )
 
@@ -34,25 +35,6 @@ MOVES = [
     (WIDE, "F", (("k", "L", "j", "I"), ("g", "h", "F", "e"), ("C", "D", "B", "A"))),
     (WIDE, "L", (("L", "I", "j", "k"), ("D", "A", "B", "C"), ("h", "e", "F", "g"))),
 ]
-
-
-def moved(floor, name):
-    """Point 5, cell by cell."""
-    [(row, column)] = [(row, column) for row, column, other in positions_of(floor) if other == name]
-    rows = [*range(row + 1, len(floor)), row, *range(row)]
-    columns = [*range(column + 1, len(floor[0])), column, *range(column)]
-    return tuple(tuple(floor[r][c] for c in columns) for r in rows)
-
-
-def all_moved(floor, names):
-    """The floor after several moves."""
-    for name in names:
-        floor = moved(floor, name)
-    return floor
-
-
-def leaders_on(floor):
-    return [name for _, _, name in positions_of(floor) if name[0] in CAPITALS]
 
 
 def others_on(floor):

@@ -25,6 +25,12 @@ def column_ring(floor):
     return ring_of(columns_of(floor))
 
 
+def labels_of(lines, names):
+    """Return the list of the labels of the lines in which the names stand."""
+    labels = {name: min(line) for line in lines for name in line}
+    return [labels[name] for name in names]
+
+
 def count_leaders(line):
     """Return the number of leaders in a row or a column."""
     return len([name for name in line if is_leader(name)])
@@ -33,6 +39,11 @@ def count_leaders(line):
 def used_labels(lines):
     """Return the tuple of the labels of the lines that contain a leader, in ascending order."""
     return tuple(sorted([min(line) for line in lines if count_leaders(line) > 0]))
+
+
+def idle_labels(lines):
+    """Return the tuple of the labels of the lines without a leader, in the order of the lines."""
+    return tuple([min(line) for line in lines if count_leaders(line) == 0])
 
 
 def used_rows(floor):

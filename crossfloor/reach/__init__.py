@@ -1,0 +1,1 @@
+"""What moves can reach: reasons against it, routes, least numbers of moves."""
