@@ -1,5 +1,6 @@
 """The document's points, word by word: slow, and only for comparison with the program."""
 
+import functools
 import itertools
 
 from tests.samples import CAPITALS, positions_of, reordered, turned
@@ -154,8 +155,9 @@ def least_number(start, goal):
                if is_odd_one(rows) == is_odd_one(columns))
 
 
+@functools.lru_cache(maxsize=None)
 def shortest_routes(start):
-    """All floors that moves lead to, each with the least of the shortest routes to it."""
+    """All floors that moves lead to, each with the least of the shortest routes to it. Not to be changed."""
     found = {start: ()}
     layer = {start: ()}
     while layer:

@@ -129,6 +129,11 @@ def assert_bad_floor(test, place, call, *arguments):
     assert_raises(test, BadFloor, {"row": place[0], "column": place[1]}, call, *arguments)
 
 
+def full_floor(count, width):
+    """A floor of that many rows and columns with leaders only."""
+    return led_floor(count, width, list(itertools.product(range(count), range(width))))
+
+
 def all_led_floors(count, width):
     """All floors of that many rows and columns: each choice of leaders, without any to leaders only."""
     places = list(itertools.product(range(count), range(width)))
@@ -181,6 +186,13 @@ REASONS = [
 SEARCHED = [floor for shape in ((1, 1), (1, 2), (2, 1), (1, 3), (3, 1), (2, 2)) for floor in all_led_floors(*shape)]
 SEARCHED += [floor for shape in ((2, 3), (3, 2), (3, 3), (1, 4), (4, 1), (2, 4), (1, 5), (4, 2), (3, 4))
              for floor in some_led_floors(*shape, 14)]
+# Clear floors from which up to about a thousand floors can be reached.
+WIDER = [
+    full_floor(3, 4), full_floor(4, 3), full_floor(4, 4), full_floor(1, 6), full_floor(6, 1), full_floor(3, 5),
+    led_floor(4, 4, [(0, 2), (1, 0), (2, 3), (3, 1)]), led_floor(5, 5, [(0, 3), (1, 0), (2, 4), (3, 2), (4, 1)]),
+    led_floor(6, 5, [(5, 2), (1, 0), (3, 4), (0, 3)]), led_floor(3, 7, [(0, 6), (1, 2), (2, 4)]),
+    led_floor(6, 6, [(0, 5), (1, 2), (3, 4), (4, 0), (5, 1)]),
+]
 EACH_ROW_AND_COLUMN = [(row, (5 * row + 3) % 12) for row in range(12)]
 EVERY_PLACE = list(itertools.product(range(12), repeat=2))
 # Floors of twelve rows and twelve columns: how many leaders there are, and where.

@@ -1,6 +1,5 @@
 """Points 2, 5, 7, 11 and 12 and the interface of crossfloor/reach/least.py."""
 
-import itertools
 import random
 import unittest
 
@@ -11,8 +10,8 @@ from tests.plain import (
     all_moved, all_orders, is_matched_floor, leaders_on, least_number, shortest_routes,
 )
 from tests.samples import (
-    GREAT, REASONS, SAMPLES, SEARCHED, TWELVE_BY_TWELVE,
-    assert_raises, assert_unreachable, led_floor, positions_of, reordered, turned,
+    GREAT, REASONS, SAMPLES, SEARCHED, TWELVE_BY_TWELVE, WIDER,
+    assert_raises, assert_unreachable, full_floor, positions_of, reordered, turned,
 )
 
 FLOORS = [floor for floor, _, _ in SAMPLES] + [TWELVE_BY_TWELVE] + list(GREAT.values()) + SEARCHED
@@ -24,20 +23,8 @@ def is_clear_floor(floor):
     return is_matched_floor(floor) or len(leaders_on(floor)) == len(positions_of(floor))
 
 
-def full_floor(count, width):
-    """A floor of that many rows and columns with leaders only."""
-    return led_floor(count, width, list(itertools.product(range(count), range(width))))
-
-
 CLEAR = [floor for floor in FLOORS if is_clear_floor(floor)]
 UNCLEAR = [floor for floor in FLOORS if not is_clear_floor(floor)]
-# Clear floors from which up to about a thousand floors can be reached.
-WIDER = [
-    full_floor(3, 4), full_floor(4, 3), full_floor(4, 4), full_floor(1, 6), full_floor(6, 1), full_floor(3, 5),
-    led_floor(4, 4, [(0, 2), (1, 0), (2, 3), (3, 1)]), led_floor(5, 5, [(0, 3), (1, 0), (2, 4), (3, 2), (4, 1)]),
-    led_floor(6, 5, [(5, 2), (1, 0), (3, 4), (0, 3)]), led_floor(3, 7, [(0, 6), (1, 2), (2, 4)]),
-    led_floor(6, 6, [(0, 5), (1, 2), (3, 4), (4, 0), (5, 1)]),
-]
 
 
 class LeastTest(unittest.TestCase):

@@ -12,6 +12,12 @@ def locate_leader(floor, name):
     return place
 
 
+def check_leaders(floor, names):
+    """Raise UnknownItem or NotLeader for the first of the names that is no leader of the floor."""
+    for name in names:
+        locate_leader(floor, name)
+
+
 def crossed(line, at):
     """Return the tuple with what stands behind the index, what stands at it, and what stands before it."""
     return line[at + 1:] + line[at:at + 1] + line[:at]
@@ -26,8 +32,7 @@ def cross(floor, name):
 def play(floor, names, *, reverse=False):
     """Return the floor after the moves about the leaders, the last one first if reverse is True."""
     # Moves keep all items on the floor, so every name can be checked before the first move.
-    for name in names:
-        locate_leader(floor, name)
+    check_leaders(floor, names)
     played = floor
     for name in names[::-1] if reverse else names:
         played = cross(played, name)

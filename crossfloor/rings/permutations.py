@@ -26,9 +26,37 @@ def cycles_of(permutation):
     return tuple(cycles)
 
 
+def product_of(first, second):
+    """Return the permutation that is the first one followed by the second one."""
+    images = dict(second)
+    return tuple([(x, images[y]) for x, y in first])
+
+
+def inverse_of(permutation):
+    """Return the permutation that maps each image back."""
+    return tuple(sorted([(y, x) for x, y in permutation]))
+
+
+def power_of(permutation, count):
+    """Return the permutation repeated so many times; a negative count repeats the inverse."""
+    images = dict(permutation)
+    for cycle in cycles_of(permutation):
+        for at, x in enumerate(cycle):
+            images[x] = cycle[(at + count) % len(cycle)]
+    return tuple(sorted(images.items()))
+
+
 def is_odd(permutation):
     """True if the permutation is a product of an odd number of exchanges."""
     return sum([len(cycle) - 1 for cycle in cycles_of(permutation)]) % 2 == 1
+
+
+def exchanges_with_gap(ring, labels):
+    """Return the permutation of the ring that the exchanges of the gap with the labels make, one after another."""
+    sources = {x: x for x in ring}
+    for label in labels:
+        sources[GAP], sources[label] = sources[label], sources[GAP]
+    return tuple(sorted([(x, y) for y, x in sources.items()]))
 
 
 def has_gap(cycle):

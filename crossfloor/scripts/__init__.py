@@ -1,0 +1,1 @@
+"""Effects of moves, and scripts with repeat counts."""
